@@ -21,6 +21,10 @@ type Memory interface {
 	Lock(thread, lock int)
 	// Unlock tells whether the thread may free the lock; if not, the run falls.
 	Unlock(thread, lock int) bool
+	// Waiting hands to tell the places of what waits of the thread's and can be done now, in the order in which it waits.
+	Waiting(thread int, tell func(place int))
+	// Finish does what waits of the thread's at a place that Waiting tells.
+	Finish(thread, place int)
 	// Words tells what the words hold, as a list of its own.
 	Words() []int
 }
@@ -67,13 +71,23 @@ func (m *Plain) Lock(thread, lock int) {
 	m.holders[lock] = thread
 }
 
+// Holds tells whether the thread has taken the lock, and it has not become free since.
+func (m *Plain) Holds(thread, lock int) bool {
+	return m.holders[lock] == thread
+}
+
 func (m *Plain) Unlock(thread, lock int) bool {
-	if m.holders[lock] != thread {
+	if !m.Holds(thread, lock) {
 		return false
 	}
 	m.holders[lock] = free
 	return true
 }
+
+// Waiting tells nothing: what is done at once never waits.
+func (m *Plain) Waiting(thread int, tell func(place int)) {}
+
+func (m *Plain) Finish(thread, place int) {}
 
 func (m *Plain) Words() []int {
 	return slices.Clone(m.words)

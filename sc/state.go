@@ -37,16 +37,34 @@ func (s *state) ended() bool {
 	return true
 }
 
-// able tells the threads that can do their next order.
-func (s *state) able() []int {
-	var list []int
+// pick is a step that can come next: a thread's next order, or what waits of the thread's at a place.
+type pick struct{ thread, place int }
+
+// nextOrder stands where a pick has no place, as it is of an order.
+const nextOrder = -1
+
+// picks tells all that can come next: thread by thread its next order, then what waits of it.
+func (s *state) picks() []pick {
+	var list []pick
 	for i := range s.threads {
 		t := &s.threads[i]
 		if !t.ended() && s.Able(i, t.code[t.at]) {
-			list = append(list, i)
+			list = append(list, pick{i, nextOrder})
 		}
+		s.Waiting(i, func(place int) {
+			list = append(list, pick{i, place})
+		})
 	}
 	return list
+}
+
+// do takes the step that is picked, and tells whether the run goes on.
+func (s *state) do(p pick) bool {
+	if p.place == nextOrder {
+		return s.step(p.thread)
+	}
+	s.Finish(p.thread, p.place)
+	return true
 }
 
 // step does the thread's next order, and tells whether the run goes on.
