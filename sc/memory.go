@@ -27,6 +27,10 @@ type Memory interface {
 	Finish(thread, place int)
 	// Words tells what the words hold, as a list of its own.
 	Words() []int
+	// Clone is a memory of the same kind that is the same, and goes on by itself.
+	Clone() Memory
+	// Tell hands on numbers that are all that the memory is: two of a program, of one kind, are the same where these are.
+	Tell(tell func(number int))
 }
 
 // free stands in place of a thread where nobody has taken a lock.
@@ -91,4 +95,18 @@ func (m *Plain) Finish(thread, place int) {}
 
 func (m *Plain) Words() []int {
 	return slices.Clone(m.words)
+}
+
+// Copy is Clone for those who embed a plain memory, and need one again.
+func (m *Plain) Copy() *Plain {
+	return &Plain{words: slices.Clone(m.words), holders: slices.Clone(m.holders)}
+}
+
+func (m *Plain) Clone() Memory {
+	return m.Copy()
+}
+
+func (m *Plain) Tell(tell func(number int)) {
+	tellAll(m.words, tell)
+	tellAll(m.holders, tell)
 }

@@ -1,6 +1,10 @@
 package sc
 
-import "sluice/api"
+import (
+	"slices"
+
+	"sluice/api"
+)
 
 // thread is where one stands, and what its registers hold.
 type thread struct {
@@ -9,15 +13,16 @@ type thread struct {
 	regs []int
 }
 
-// state is where a run stands; what its threads share is in the memory.
-type state struct {
+// State is where a run stands; what its threads share is in the memory.
+type State struct {
 	Memory
 	threads []thread
 	prints  []int
 }
 
-func begin(p api.Program, m Memory) *state {
-	s := &state{Memory: m}
+// Begin is the state of a program that Check has let pass, ahead of its first step, in the memory that is given.
+func Begin(p api.Program, m Memory) *State {
+	s := &State{Memory: m}
 	for _, code := range p.Code {
 		s.threads = append(s.threads, thread{code: code, regs: make([]int, p.Regs)})
 	}
@@ -28,126 +33,73 @@ func (t *thread) ended() bool {
 	return t.at == len(t.code)
 }
 
-func (s *state) ended() bool {
+// Rest tells how a run ends where nothing can be picked any more.
+func (s *State) Rest() int {
 	for i := range s.threads {
 		if !s.threads[i].ended() {
-			return false
+			return api.Stuck
 		}
 	}
-	return true
+	return api.Done
 }
 
-// pick is a step that can come next: a thread's next order, or what waits of the thread's at a place.
-type pick struct{ thread, place int }
+// Prints tells what was printed so far, as a list of its own.
+func (s *State) Prints() []int {
+	return slices.Clone(s.prints)
+}
+
+// Clone is the same state, which goes on by itself: a step of one changes nothing of the other.
+func (s *State) Clone() *State {
+	threads := slices.Clone(s.threads)
+	for i := range threads {
+		threads[i].regs = slices.Clone(threads[i].regs)
+	}
+	return &State{Memory: s.Memory.Clone(), threads: threads, prints: slices.Clone(s.prints)}
+}
+
+// Tell hands on numbers that are all that the state is: two states of a program are the same where these are.
+func (s *State) Tell(tell func(number int)) {
+	for i := range s.threads {
+		tell(s.threads[i].at)
+		tellAll(s.threads[i].regs, tell)
+	}
+	s.Memory.Tell(tell)
+	// There may be any number of these, so they stand last.
+	tellAll(s.prints, tell)
+}
+
+func tellAll(numbers []int, tell func(number int)) {
+	for _, n := range numbers {
+		tell(n)
+	}
+}
+
+// Pick is a step that can come next: a thread's next order, or what waits of the thread's at a place.
+type Pick struct{ thread, place int }
 
 // nextOrder stands where a pick has no place, as it is of an order.
 const nextOrder = -1
 
-// picks tells all that can come next: thread by thread its next order, then what waits of it.
-func (s *state) picks() []pick {
-	var list []pick
+// Picks tells all that can come next: thread by thread its next order, then what waits of it.
+func (s *State) Picks() []Pick {
+	var list []Pick
 	for i := range s.threads {
 		t := &s.threads[i]
 		if !t.ended() && s.Able(i, t.code[t.at]) {
-			list = append(list, pick{i, nextOrder})
+			list = append(list, Pick{i, nextOrder})
 		}
 		s.Waiting(i, func(place int) {
-			list = append(list, pick{i, place})
+			list = append(list, Pick{i, place})
 		})
 	}
 	return list
 }
 
-// do takes the step that is picked, and tells whether the run goes on.
-func (s *state) do(p pick) bool {
+// Do takes a step that Picks tells, and tells whether the run goes on; if not, it falls.
+func (s *State) Do(p Pick) bool {
 	if p.place == nextOrder {
 		return s.step(p.thread)
 	}
 	s.Finish(p.thread, p.place)
 	return true
-}
-
-// step does the thread's next order, and tells whether the run goes on.
-func (s *state) step(who int) bool {
-	t := &s.threads[who]
-	order := t.code[t.at]
-	t.at++
-	switch order.Op {
-	case api.OpJump:
-		t.at = order.A
-	case api.OpZero:
-		if t.regs[order.A] == 0 {
-			t.at = order.B
-		}
-	case api.OpPrint:
-		s.prints = append(s.prints, who, t.regs[order.A])
-	case api.OpLock:
-		s.Lock(who, order.A)
-	case api.OpUnlock:
-		return s.Unlock(who, order.A)
-	case api.OpLoad, api.OpStore, api.OpLoadAt, api.OpStoreAt, api.OpCas:
-		return s.touch(who, order)
-	default:
-		t.reckon(order)
-	}
-	return true
-}
-
-// touch does an order of a word, and tells whether there is that word.
-func (s *state) touch(who int, order api.Instr) bool {
-	regs := s.threads[who].regs
-	word := wordOf(order, regs)
-	if !s.Has(word) {
-		return false
-	}
-	switch order.Op {
-	case api.OpLoad, api.OpLoadAt:
-		regs[order.A] = s.Load(who, word)
-	case api.OpStore, api.OpStoreAt:
-		s.Store(who, word, regs[order.B])
-	case api.OpCas:
-		regs[order.B] = truth(s.Swap(who, word, regs[order.B], regs[order.C]))
-	}
-	return true
-}
-
-// wordOf tells the number of the word that an order touches.
-func wordOf(order api.Instr, regs []int) int {
-	switch order.Op {
-	case api.OpLoad:
-		return order.B
-	case api.OpLoadAt:
-		return regs[order.B]
-	case api.OpStoreAt:
-		return regs[order.A]
-	}
-	return order.A
-}
-
-// reckon does an order that the thread's registers alone have to do with.
-func (t *thread) reckon(order api.Instr) {
-	r := t.regs
-	switch order.Op {
-	case api.OpConst:
-		r[order.A] = order.B
-	case api.OpMove:
-		r[order.A] = r[order.B]
-	case api.OpAdd:
-		r[order.A] = r[order.B] + r[order.C]
-	case api.OpSub:
-		r[order.A] = r[order.B] - r[order.C]
-	case api.OpMul:
-		r[order.A] = r[order.B] * r[order.C]
-	case api.OpLess:
-		r[order.A] = truth(r[order.B] < r[order.C])
-	case api.OpSame:
-		r[order.A] = truth(r[order.B] == r[order.C])
-	}
-}
-
-func truth(holds bool) int {
-	if holds {
-		return 1
-	}
-	return 0
 }

@@ -86,3 +86,36 @@ func (m *Buffered) Finish(thread, place int) {
 	}
 	m.Plain.Store(thread, s.into.number, s.becomes)
 }
+
+// Copy is Clone for those who embed a memory with buffers, and need one again.
+func (m *Buffered) Copy() *Buffered {
+	buffers := slices.Clone(m.buffers)
+	for i := range buffers {
+		buffers[i] = slices.Clone(buffers[i])
+	}
+	return &Buffered{Plain: m.Plain.Copy(), buffers: buffers}
+}
+
+func (m *Buffered) Clone() sc.Memory {
+	return m.Copy()
+}
+
+func (m *Buffered) Tell(tell func(number int)) {
+	m.Plain.Tell(tell)
+	for _, buffer := range m.buffers {
+		// How many wait is told ahead of them, so that no two threads' buffers can be taken for one another.
+		tell(len(buffer))
+		for _, s := range buffer {
+			tell(s.into.sign())
+			tell(s.becomes)
+		}
+	}
+}
+
+// sign is a number of its own for each cell; words have none below 0.
+func (c cell) sign() int {
+	if c.lock {
+		return -1 - c.number
+	}
+	return c.number
+}

@@ -1,0 +1,88 @@
+package sc
+
+import "sluice/api"
+
+// step does the thread's next order, and tells whether the run goes on.
+func (s *State) step(who int) bool {
+	t := &s.threads[who]
+	order := t.code[t.at]
+	t.at++
+	switch order.Op {
+	case api.OpJump:
+		t.at = order.A
+	case api.OpZero:
+		if t.regs[order.A] == 0 {
+			t.at = order.B
+		}
+	case api.OpPrint:
+		s.prints = append(s.prints, who, t.regs[order.A])
+	case api.OpLock:
+		s.Lock(who, order.A)
+	case api.OpUnlock:
+		return s.Unlock(who, order.A)
+	case api.OpLoad, api.OpStore, api.OpLoadAt, api.OpStoreAt, api.OpCas:
+		return s.touch(who, order)
+	default:
+		t.reckon(order)
+	}
+	return true
+}
+
+// touch does an order of a word, and tells whether there is that word.
+func (s *State) touch(who int, order api.Instr) bool {
+	regs := s.threads[who].regs
+	word := wordOf(order, regs)
+	if !s.Has(word) {
+		return false
+	}
+	switch order.Op {
+	case api.OpLoad, api.OpLoadAt:
+		regs[order.A] = s.Load(who, word)
+	case api.OpStore, api.OpStoreAt:
+		s.Store(who, word, regs[order.B])
+	case api.OpCas:
+		regs[order.B] = truth(s.Swap(who, word, regs[order.B], regs[order.C]))
+	}
+	return true
+}
+
+// wordOf tells the number of the word that an order touches.
+func wordOf(order api.Instr, regs []int) int {
+	switch order.Op {
+	case api.OpLoad:
+		return order.B
+	case api.OpLoadAt:
+		return regs[order.B]
+	case api.OpStoreAt:
+		return regs[order.A]
+	}
+	return order.A
+}
+
+// reckon does an order that the thread's registers alone have to do with.
+func (t *thread) reckon(order api.Instr) {
+	r := t.regs
+	switch order.Op {
+	case api.OpConst:
+		r[order.A] = order.B
+	case api.OpMove:
+		r[order.A] = r[order.B]
+	case api.OpAdd:
+		r[order.A] = r[order.B] + r[order.C]
+	case api.OpSub:
+		r[order.A] = r[order.B] - r[order.C]
+	case api.OpMul:
+		r[order.A] = r[order.B] * r[order.C]
+	case api.OpLess:
+		r[order.A] = truth(r[order.B] < r[order.C])
+	case api.OpSame:
+		r[order.A] = truth(r[order.B] == r[order.C])
+	}
+}
+
+func truth(holds bool) int {
+	if holds {
+		return 1
+	}
+	return 0
+}

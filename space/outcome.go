@@ -1,0 +1,40 @@
+package space
+
+import (
+	"cmp"
+	"slices"
+
+	"sluice/api"
+	"sluice/sc"
+)
+
+// Outcomes tells how runs of a program that Check has let pass can end, in the memory that is given: each once, in order.
+func Outcomes(p api.Program, m sc.Memory) ([]api.Outcome, api.Fault) {
+	var list []api.Outcome
+	see := func(s *sc.State) {
+		if len(s.Picks()) == 0 {
+			list = append(list, api.Outcome{Status: s.Rest(), Words: s.Words(), Prints: s.Prints()})
+		}
+	}
+	fell := func(s *sc.State) {
+		list = append(list, api.Outcome{Status: api.Fell, Prints: s.Prints()})
+	}
+	if !Walk(sc.Begin(p, m), see, fell) {
+		return nil, api.Fault{Code: api.ErrFull}
+	}
+	slices.SortFunc(list, compare)
+	return slices.CompactFunc(list, same), api.Fault{}
+}
+
+// compare tells which of two outcomes comes first, as a number below, of or above 0.
+func compare(a, b api.Outcome) int {
+	return cmp.Or(
+		cmp.Compare(a.Status, b.Status),
+		slices.Compare(a.Words, b.Words),
+		slices.Compare(a.Prints, b.Prints),
+	)
+}
+
+func same(a, b api.Outcome) bool {
+	return compare(a, b) == 0
+}
