@@ -33,6 +33,12 @@ func (t *thread) ended() bool {
 	return t.at == len(t.code)
 }
 
+// able tells whether the thread has a next order, and can do it now.
+func (s *State) able(who int) bool {
+	t := &s.threads[who]
+	return !t.ended() && s.Able(who, t.code[t.at])
+}
+
 // Rest tells how a run ends where nothing can be picked any more.
 func (s *State) Rest() int {
 	for i := range s.threads {
@@ -84,13 +90,31 @@ const nextOrder = -1
 func (s *State) Picks() []Pick {
 	var list []Pick
 	for i := range s.threads {
-		t := &s.threads[i]
-		if !t.ended() && s.Able(i, t.code[t.at]) {
+		if s.able(i) {
 			list = append(list, Pick{i, nextOrder})
 		}
 		s.Waiting(i, func(place int) {
 			list = append(list, Pick{i, place})
 		})
+	}
+	return list
+}
+
+// Touch is of a thread that is able: where it stands, what its next order does, and the word that this touches.
+type Touch struct{ Thread, At, Op, Word int }
+
+// Touches tells, thread by thread, which words can be touched next; an order of no word touches none.
+func (s *State) Touches() []Touch {
+	var list []Touch
+	for i := range s.threads {
+		if !s.able(i) {
+			continue
+		}
+		t := &s.threads[i]
+		order := t.code[t.at]
+		if word, is := wordOf(order, t.regs); is && s.Has(word) {
+			list = append(list, Touch{i, t.at, order.Op, word})
+		}
 	}
 	return list
 }

@@ -31,8 +31,8 @@ func (s *State) step(who int) bool {
 // touch does an order of a word, and tells whether there is that word.
 func (s *State) touch(who int, order api.Instr) bool {
 	regs := s.threads[who].regs
-	word := wordOf(order, regs)
-	if !s.Has(word) {
+	word, is := wordOf(order, regs)
+	if !is || !s.Has(word) {
 		return false
 	}
 	switch order.Op {
@@ -46,17 +46,19 @@ func (s *State) touch(who int, order api.Instr) bool {
 	return true
 }
 
-// wordOf tells the number of the word that an order touches.
-func wordOf(order api.Instr, regs []int) int {
+// wordOf tells the number of the word that an order touches, and whether it is an order of a word; there may be no such word.
+func wordOf(order api.Instr, regs []int) (int, bool) {
 	switch order.Op {
 	case api.OpLoad:
-		return order.B
+		return order.B, true
+	case api.OpStore, api.OpCas:
+		return order.A, true
 	case api.OpLoadAt:
-		return regs[order.B]
+		return regs[order.B], true
 	case api.OpStoreAt:
-		return regs[order.A]
+		return regs[order.A], true
 	}
-	return order.A
+	return 0, false
 }
 
 // reckon does an order that the thread's registers alone have to do with.
