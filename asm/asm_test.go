@@ -568,3 +568,48 @@ func TestNothingIsShared(t *testing.T) {
 		t.Error(q)
 	}
 }
+
+// Rewrite: what an order becomes may be any number of orders; places are led to the first of them, or to what comes next.
+func TestRewrite(t *testing.T) {
+	p := api.Program{Words: []int{3, 4}, Locks: 2, Regs: 3, Code: [][]api.Instr{
+		{{Op: api.OpJump, A: 4}, {Op: api.OpPrint, A: 1}, {Op: api.OpLock, A: 1}, {Op: api.OpPrint, A: 2}},
+		{},
+		{{Op: api.OpZero, A: 1, B: 1}, {Op: api.OpFence}, {Op: api.OpJump, A: 2}, {Op: api.OpZero, A: 2, B: 3}},
+	}}
+	q := asm.Rewrite(p, func(thread, at int) []api.Instr {
+		order := p.Code[thread][at]
+		switch order.Op {
+		case api.OpFence:
+			return nil
+		case api.OpLock:
+			return []api.Instr{{Op: api.OpConst, B: 1}, {Op: api.OpZero, A: 1, B: at}, {Op: api.OpJump, A: at + 1}}
+		case api.OpZero:
+			return []api.Instr{{Op: api.OpPrint, A: thread}, order}
+		}
+		return []api.Instr{order}
+	})
+	want := api.Program{Words: []int{3, 4}, Locks: 2, Regs: 3, Code: [][]api.Instr{
+		{{Op: api.OpJump, A: 6}, {Op: api.OpPrint, A: 1}, {Op: api.OpConst, B: 1}, {Op: api.OpZero, A: 1, B: 2}, {Op: api.OpJump, A: 5}, {Op: api.OpPrint, A: 2}},
+		nil,
+		{{Op: api.OpPrint, A: 2}, {Op: api.OpZero, A: 1, B: 2}, {Op: api.OpJump, A: 2}, {Op: api.OpPrint, A: 2}, {Op: api.OpZero, A: 2, B: 3}},
+	}}
+	if !reflect.DeepEqual(q, want) {
+		t.Errorf("%v, want %v", q, want)
+	}
+}
+
+// Next: where a thread can go on, of each order.
+func TestNext(t *testing.T) {
+	for _, r := range table() {
+		want := []int{5}
+		switch r.op {
+		case api.OpJump:
+			want = []int{7}
+		case api.OpZero:
+			want = []int{5, 8}
+		}
+		if got := asm.Next(instr(r.op, [3]int{7, 8, 9}), 4); !slices.Equal(got, want) {
+			t.Error(r.name, got, want)
+		}
+	}
+}

@@ -38,3 +38,8 @@ func compare(a, b api.Outcome) int {
 func same(a, b api.Outcome) bool {
 	return compare(a, b) == 0
 }
+
+// Alike tells whether two lists of outcomes are the same.
+func Alike(a, b []api.Outcome) bool {
+	return slices.EqualFunc(a, b, same)
+}
