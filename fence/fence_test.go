@@ -495,22 +495,114 @@ func TestFewestFull(t *testing.T) {
 	}
 }
 
-// F4: where there is no room for a fence that is looked at, that is told as Full tells it; where none is needed, it is not.
-func TestFewestWithoutRoom(t *testing.T) {
-	head := "words 0 0; locks 0; regs 2"
-	long := func(orders string) string {
-		n := strings.Count(orders, ";") + 1
-		return orders + "; jump 400" + strings.Repeat("; fence", api.MaxCode-n-1)
+// long is the thread with so many orders behind its end, that are done never, that it has MaxCode of them.
+func long(code []api.Instr) []api.Instr {
+	code = append(slices.Clone(code), api.Instr{Op: api.OpJump, A: api.MaxCode})
+	for len(code) < api.MaxCode {
+		code = append(code, api.Instr{Op: api.OpFence})
 	}
-	two := sides("", "")
-	for thread, list := range [][]string{{long(two[0]), two[1]}, {two[0], long(two[1])}} {
-		got, f := fence.Fewest(program(t, head, list...))
-		if f != (api.Fault{Code: api.ErrSize, Thread: thread}) || len(got) > 0 {
-			t.Error(thread, got, f)
+	return code
+}
+
+// behind is the thread, which has no jumps, behind so many orders that are done never, that it has MaxCode of them.
+func behind(code []api.Instr) []api.Instr {
+	rest := slices.Repeat([]api.Instr{{Op: api.OpFence}}, api.MaxCode-len(code))
+	rest[0] = api.Instr{Op: api.OpJump, A: len(rest)}
+	return append(rest, code...)
+}
+
+// lengthened is the program with those threads long of which the mask's bits say so.
+func lengthened(p api.Program, mask int) api.Program {
+	p.Code = slices.Clone(p.Code)
+	for i, code := range p.Code {
+		if mask>>i&1 == 1 {
+			p.Code[i] = long(code)
 		}
 	}
-	if got := fewestOf(t, program(t, head, long(two[0]), "const 0 1; store 1 0; fence")); got != "" {
+	return p
+}
+
+// F4: a program that is only looked at may have more than MaxCode orders; F1: Full's may not.
+func TestFewestWithoutRoom(t *testing.T) {
+	for _, x := range []struct {
+		what    string
+		threads []string
+		want    string
+	}{
+		{"one behind each", sides("", ""), "0:1 1:1"},
+		{"in the first", sides("", "fence; "), "0:1"},
+		{"in the second", sides("fence; ", ""), "1:1"},
+		{"none", sides("fence; ", "fence; "), ""},
+		{"two ways", []string{"const 0 1; load 2 2; zero 2 5; store 0 0; jump 6; store 0 0; load 1 1; print 1", sides("", "")[1], "const 0 1; store 2 0"}, "0:3 0:5 1:1"},
+		{"an unlock", []string{"jump 3; unlock 0; jump 7; lock 0; const 0 1; store 0 0; jump 1; load 1 1; print 1", sides("", "")[1]}, "0:1 1:1"},
+		{"six", sides("store 2 0; store 3 0; ", "store 2 0; store 3 0; "), "0:1 1:1"},
+	} {
+		p := program(t, "words 0 0 0 0; locks 1; regs 3", x.threads...)
+		for mask := range 1 << len(p.Code) {
+			q := lengthened(p, mask)
+			if got := fewestOf(t, q); got != x.want {
+				t.Errorf("%s, %b: %q, want %q", x.what, mask, got, x.want)
+			}
+			for i := range q.Code {
+				if mask>>i&1 == 1 {
+					refused(t, x.what, fence.Full, q, api.Fault{Code: api.ErrSize, Thread: i})
+					break
+				}
+			}
+		}
+	}
+	// Orders that are done stand at the end, too.
+	p := program(t, "words 0 0; locks 0; regs 2", sides("", "")...)
+	for i, code := range p.Code {
+		p.Code[i] = behind(code)
+	}
+	if got := fewestOf(t, p); got != "0:397 1:397" {
 		t.Error(got)
+	}
+}
+
+// F4: of generated programs, too, how long threads are makes no difference, as far as there are not too many states.
+func TestFewestOfLongThreads(t *testing.T) {
+	d := dice(5)
+	found, full := 0, 0
+	for range 60 {
+		p := crossed(&d)
+		want, f := fence.Fewest(p)
+		if f.Code != api.OK {
+			continue
+		}
+		// The jump behind the end has states of its own.
+		list, f := fence.Fewest(lengthened(p, 1+d.below(1<<len(p.Code)-1)))
+		if f == (api.Fault{Code: api.ErrFull}) {
+			full++
+			continue
+		}
+		if f != (api.Fault{}) || !slices.Equal(list, want) {
+			t.Fatal(p, list, f, want)
+		}
+		if len(want) > 0 {
+			found++
+		}
+	}
+	if found < 10 || full > 10 {
+		t.Error("few of a kind:", found, full)
+	}
+	// What is looked at and has too many states is refused for that, however long its threads are.
+	p := program(t, "words 0 0 0 0; locks 0; regs 2", append([]string{"store 2 0"}, sides("", "")...)...)
+	p.Code = append(p.Code, nil)
+	p.Code[0] = behind(p.Code[0])
+	for {
+		if _, is := ends(t, space.TSO, p); !is {
+			break
+		}
+		p.Code[3] = append(p.Code[3], api.Instr{Op: api.OpFence})
+	}
+	p.Code[3] = p.Code[3][1:]
+	if _, is := ends(t, space.TSO, p); !is {
+		t.Fatal("no such program")
+	}
+	if list, f := fence.Fewest(p); f != (api.Fault{Code: api.ErrFull}) || len(list) > 0 {
+		t.Error(list, f)
 	}
 }
 

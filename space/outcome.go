@@ -9,6 +9,7 @@ import (
 )
 
 // Outcomes tells how runs of a program that Check has let pass can end, in the memory that is given: each once, in order.
+// A thread may be longer than MaxCode here.
 func Outcomes(p api.Program, m sc.Memory) ([]api.Outcome, api.Fault) {
 	var list []api.Outcome
 	see := func(s *sc.State) {
