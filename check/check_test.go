@@ -418,3 +418,22 @@ func TestExamples(t *testing.T) {
 	refused(t, "thread{int a=1;a=cas(a,0,1);}", typeAt(21))
 	refused(t, "thread{y=1;}", nameAt(7))
 }
+
+// Read tells the nodes of Parse beside what Check tells, and nothing beside a fault.
+func TestRead(t *testing.T) {
+	for _, text := range []string{"thread{}", "int x;lock m;thread{int a=x;lock(m);a=cas(x,a,1);}", "int x", "thread{x=1;}", "int x;", "int x;int x;thread{}"} {
+		p, f := check.Read(text)
+		owners, fault := check.Check(text)
+		nodes, _ := syntax.Parse(text)
+		if fault.Code != api.OK {
+			nodes = nil
+		}
+		if f != fault || !slices.Equal(p.Owners, owners) || !slices.EqualFunc(p.Nodes, nodes, sameNode) {
+			t.Errorf("%q: %v %v", text, p, f)
+		}
+	}
+}
+
+func sameNode(a, b api.Node) bool {
+	return a.Kind == b.Kind && a.Num == b.Num && a.At == b.At && a.Text == b.Text && slices.Equal(a.Kids, b.Kids)
+}

@@ -52,7 +52,12 @@ func (m *Plain) Has(word int) bool {
 }
 
 func (m *Plain) Able(thread int, order api.Instr) bool {
-	return order.Op != api.OpLock || m.holders[order.A] == free
+	return order.Op != api.OpLock || m.Free(order.A)
+}
+
+// Free tells whether nobody has taken the lock.
+func (m *Plain) Free(lock int) bool {
+	return m.holders[lock] == free
 }
 
 func (m *Plain) Load(thread, word int) int {

@@ -41,7 +41,7 @@ func (s *State) touch(who int, order api.Instr) bool {
 	case api.OpStore, api.OpStoreAt:
 		s.Store(who, word, regs[order.B])
 	case api.OpCas:
-		regs[order.B] = truth(s.Swap(who, word, regs[order.B], regs[order.C]))
+		regs[order.B] = Truth(s.Swap(who, word, regs[order.B], regs[order.C]))
 	}
 	return true
 }
@@ -76,13 +76,14 @@ func (t *thread) reckon(order api.Instr) {
 	case api.OpMul:
 		r[order.A] = r[order.B] * r[order.C]
 	case api.OpLess:
-		r[order.A] = truth(r[order.B] < r[order.C])
+		r[order.A] = Truth(r[order.B] < r[order.C])
 	case api.OpSame:
-		r[order.A] = truth(r[order.B] == r[order.C])
+		r[order.A] = Truth(r[order.B] == r[order.C])
 	}
 }
 
-func truth(holds bool) int {
+// Truth is how the machines tell that something holds: 1, else 0.
+func Truth(holds bool) int {
 	if holds {
 		return 1
 	}

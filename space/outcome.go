@@ -11,16 +11,21 @@ import (
 // Outcomes tells how runs of a program that Check has let pass can end, in the memory that is given: each once, in order.
 // A thread may be longer than MaxCode here.
 func Outcomes(p api.Program, m sc.Memory) ([]api.Outcome, api.Fault) {
+	return Ends(sc.Begin(p, m))
+}
+
+// Ends tells how runs can end that go on from the first state: each once, in order.
+func Ends[P any, S Standing[P, S]](first S) ([]api.Outcome, api.Fault) {
 	var list []api.Outcome
-	see := func(s *sc.State) {
+	see := func(s S) {
 		if len(s.Picks()) == 0 {
 			list = append(list, api.Outcome{Status: s.Rest(), Words: s.Words(), Prints: s.Prints()})
 		}
 	}
-	fell := func(s *sc.State) {
+	fell := func(s S) {
 		list = append(list, api.Outcome{Status: api.Fell, Prints: s.Prints()})
 	}
-	if !Walk(sc.Begin(p, m), see, fell) {
+	if !Walk(first, see, fell) {
 		return nil, api.Fault{Code: api.ErrFull}
 	}
 	slices.SortFunc(list, compare)
