@@ -613,3 +613,30 @@ func TestNext(t *testing.T) {
 		}
 	}
 }
+
+// Regs looks at the numbers of each order that are registers, and at no others; of any thread.
+func TestRegs(t *testing.T) {
+	for _, x := range table() {
+		for i := range 3 {
+			var n [3]int
+			n[i] = 7
+			want := 1
+			if x.kinds[i] == "r" {
+				want = 8
+			}
+			code := []api.Instr{{Op: api.OpFence}, instr(x.op, n), {Op: api.OpPrint}}
+			for _, threads := range [][][]api.Instr{{code}, {nil, code}, {code, {{Op: api.OpFence}}}} {
+				if got := asm.Regs(threads); got != want {
+					t.Errorf("%s %v: %d, want %d", x.name, n, got, want)
+				}
+			}
+		}
+	}
+	greatest := []api.Instr{{Op: api.OpAdd, A: 3, B: 9, C: 4}, {Op: api.OpConst, A: 2, B: 50}, {Op: api.OpCas, A: 60, B: 5, C: 6}}
+	if got := asm.Regs([][]api.Instr{greatest, {{Op: api.OpPrint, A: 8}}}); got != 10 {
+		t.Error(got)
+	}
+	if got := asm.Regs(nil); got != 1 {
+		t.Error(got)
+	}
+}
