@@ -33,7 +33,7 @@ func behind(order api.Instr, at int, ahead []set) set {
 
 // neededBy is what is live ahead of an order, from what is live behind it. What it reads comes last, as it reads ahead of writing.
 func neededBy(order api.Instr, live set) set {
-	if written, is := writes(order); is {
+	if written, is := Writes(order); is {
 		live = live.without(written)
 	}
 	return live.with(reads(order)...)
@@ -44,7 +44,7 @@ func clashes(code []api.Instr, regs int) []set {
 	found := make([]set, regs)
 	ahead := liveAhead(code)
 	for at, order := range code {
-		written, is := writes(order)
+		written, is := Writes(order)
 		if !is {
 			continue
 		}

@@ -122,6 +122,10 @@ func TestReads(t *testing.T) {
 // M1, M3: what an order writes clashes with all that is live behind it, but for itself, and nothing else does.
 func TestWrites(t *testing.T) {
 	for _, x := range deeds() {
+		order := program(t, x.order).Code[0][0]
+		if written, is := live.Writes(order); is != (x.writes >= 0) || written != max(x.writes, 0) {
+			t.Errorf("%s writes %d, %t", x.order, written, is)
+		}
 		want := make([][]int, 9)
 		for r := range 4 {
 			if r != x.writes && x.writes >= 0 {

@@ -17,8 +17,8 @@ func reads(order api.Instr) []int {
 	return nil
 }
 
-// writes tells the register that becomes something by an order, and whether there is one.
-func writes(order api.Instr) (int, bool) {
+// Writes tells the register that becomes something by an order, and whether there is one.
+func Writes(order api.Instr) (int, bool) {
 	switch order.Op {
 	case api.OpConst, api.OpMove, api.OpAdd, api.OpSub, api.OpMul, api.OpLess, api.OpSame, api.OpLoad, api.OpLoadAt:
 		return order.A, true

@@ -67,19 +67,26 @@ func (t *thread) reckon(order api.Instr) {
 	switch order.Op {
 	case api.OpConst:
 		r[order.A] = order.B
-	case api.OpMove:
-		r[order.A] = r[order.B]
-	case api.OpAdd:
-		r[order.A] = r[order.B] + r[order.C]
-	case api.OpSub:
-		r[order.A] = r[order.B] - r[order.C]
-	case api.OpMul:
-		r[order.A] = r[order.B] * r[order.C]
-	case api.OpLess:
-		r[order.A] = Truth(r[order.B] < r[order.C])
-	case api.OpSame:
-		r[order.A] = Truth(r[order.B] == r[order.C])
+	case api.OpMove, api.OpAdd, api.OpSub, api.OpMul, api.OpLess, api.OpSame:
+		r[order.A] = Reckon(order.Op, r[order.B], r[order.C])
 	}
+}
+
+// Reckon tells what an order from OpMove to OpSame makes of what its B and C hold; OpMove leaves what C holds alone.
+func Reckon(op, b, c int) int {
+	switch op {
+	case api.OpAdd:
+		return b + c
+	case api.OpSub:
+		return b - c
+	case api.OpMul:
+		return b * c
+	case api.OpLess:
+		return Truth(b < c)
+	case api.OpSame:
+		return Truth(b == c)
+	}
+	return b
 }
 
 // Truth is how the machines tell that something holds: 1, else 0.
