@@ -36,7 +36,7 @@ func neededBy(order api.Instr, live set) set {
 	if written, is := Writes(order); is {
 		live = live.without(written)
 	}
-	return live.with(reads(order)...)
+	return live.with(Reads(order)...)
 }
 
 // clashes tells of each of so many registers of a thread those that it clashes with.

@@ -140,6 +140,47 @@ func TestWrites(t *testing.T) {
 	}
 }
 
+// M1: which registers an order reads, by turns, and where these and the one that it writes stand in it.
+func TestUses(t *testing.T) {
+	for _, x := range []struct{ order, reads, other string }{
+		{"const 1 2", "[]", "const 6 2"},
+		{"move 1 2", "[2]", "move 6 7"},
+		{"add 1 3 2", "[3 2]", "add 6 7 8"},
+		{"sub 1 2 3", "[2 3]", "sub 6 7 8"},
+		{"mul 1 2 2", "[2 2]", "mul 6 7 8"},
+		{"less 1 1 2", "[1 2]", "less 6 7 8"},
+		{"same 1 1 1", "[1 1]", "same 6 7 8"},
+		{"load 1 2", "[]", "load 6 2"},
+		{"store 1 2", "[2]", "store 1 7"},
+		{"loadat 1 2", "[2]", "loadat 6 7"},
+		{"storeat 2 1", "[2 1]", "storeat 7 8"},
+		{"storeat 1 1", "[1 1]", "storeat 7 8"},
+		{"fence", "[]", "fence"},
+		{"cas 3 2 1", "[2 1]", "cas 3 6 8"},
+		{"cas 3 2 2", "[2 2]", "cas 3 6 8"},
+		{"jump 1", "[]", "jump 1"},
+		{"zero 2 1", "[2]", "zero 7 1"},
+		{"print 1", "[1]", "print 7"},
+		{"lock 1", "[]", "lock 1"},
+		{"unlock 1", "[]", "unlock 1"},
+	} {
+		order := program(t, x.order).Code[0][0]
+		if got := fmt.Sprint(live.Reads(order)); got != x.reads {
+			t.Errorf("%s reads %s, want %s", x.order, got, x.reads)
+		}
+		reads, written := live.Uses(&order)
+		for i, register := range reads {
+			*register = 7 + i
+		}
+		if written != nil {
+			*written = 6
+		}
+		if want := program(t, x.other).Code[0][0]; order != want {
+			t.Errorf("%s: %v, want %v", x.order, order, want)
+		}
+	}
+}
+
 // M1, M2: over any orders that can follow.
 func TestAheadByWays(t *testing.T) {
 	play(t, live.Ahead, []scene{
