@@ -7,15 +7,15 @@ import (
 	"sluice/sc"
 )
 
-// cell is what a store changes: the word of this number, or the lock.
-type cell struct {
-	lock   bool
-	number int
+// Cell is what a store changes: the word of this number, or the lock.
+type Cell struct {
+	Lock   bool
+	Number int
 }
 
 // store is one that waits. Where a lock becomes free, becomes is 0, so that two of one lock are the same.
 type store struct {
-	into    cell
+	into    Cell
 	becomes int
 }
 
@@ -45,7 +45,7 @@ func (m *Buffered) Able(thread int, order api.Instr) bool {
 // Load gives what the thread's own last store into the word says, while that waits.
 func (m *Buffered) Load(thread, word int) int {
 	for _, s := range slices.Backward(m.buffers[thread]) {
-		if s.into == (cell{number: word}) {
+		if s.into == (Cell{Number: word}) {
 			return s.becomes
 		}
 	}
@@ -53,12 +53,12 @@ func (m *Buffered) Load(thread, word int) int {
 }
 
 func (m *Buffered) Store(thread, word, number int) {
-	m.put(thread, store{into: cell{number: word}, becomes: number})
+	m.put(thread, store{into: Cell{Number: word}, becomes: number})
 }
 
 // Unlock lets the lock wait to become free; who frees it twice ahead of that may not.
 func (m *Buffered) Unlock(thread, lock int) bool {
-	frees := store{into: cell{lock: true, number: lock}}
+	frees := store{into: Cell{Lock: true, Number: lock}}
 	if !m.Holds(thread, lock) || slices.Contains(m.buffers[thread], frees) {
 		return false
 	}
@@ -68,6 +68,15 @@ func (m *Buffered) Unlock(thread, lock int) bool {
 
 func (m *Buffered) put(thread int, s store) {
 	m.buffers[thread] = append(m.buffers[thread], s)
+}
+
+// Into tells what the stores of the thread that wait are to change, the first one first, as a list of its own.
+func (m *Buffered) Into(thread int) []Cell {
+	var cells []Cell
+	for _, s := range m.buffers[thread] {
+		cells = append(cells, s.into)
+	}
+	return cells
 }
 
 // Waiting tells the first place alone: no store passes another one.
@@ -80,11 +89,11 @@ func (m *Buffered) Waiting(thread int, tell func(place int)) {
 func (m *Buffered) Finish(thread, place int) {
 	s := m.buffers[thread][place]
 	m.buffers[thread] = slices.Delete(m.buffers[thread], place, place+1)
-	if s.into.lock {
-		m.Plain.Unlock(thread, s.into.number)
+	if s.into.Lock {
+		m.Plain.Unlock(thread, s.into.Number)
 		return
 	}
-	m.Plain.Store(thread, s.into.number, s.becomes)
+	m.Plain.Store(thread, s.into.Number, s.becomes)
 }
 
 // Copy is Clone for those who embed a memory with buffers, and need one again.
@@ -113,9 +122,9 @@ func (m *Buffered) Tell(tell func(number int)) {
 }
 
 // sign is a number of its own for each cell; words have none below 0.
-func (c cell) sign() int {
-	if c.lock {
-		return -1 - c.number
+func (c Cell) sign() int {
+	if c.Lock {
+		return -1 - c.Number
 	}
-	return c.number
+	return c.Number
 }
